@@ -50,8 +50,8 @@ class WrongTexts(unittest.TestCase):
     def test_kind_1_between_and_behind_hands(self):
         for text, place in (("N:-", 3), ("N:- ", 4), ("N:--", 3), ("N:-.", 3), ("N:-?", 3), ("N:-A", 3),
                             ("N:-  - - -", 4), ("N:- - -", 7), ("N:- - - ", 8), ("N:- - - - ", 9), ("N:- - - -\n", 9),
-                            ("N:- - - -?", 9), ("N:- - - - -", 9), ("N:...?", 6), ("N:...??", 6), ("N:...?.", 6), ("N:...?A", 6),
-                            ("N:- - - ...??", 12), ("N:- - - ...? ", 12)):
+                            ("N:- - - -?", 9), ("N:- - - - -", 9), ("N:...?", 6), ("N:...??", 6), ("N:...?.", 6),
+                            ("N:...?A", 6), ("N:- - - ...??", 12), ("N:- - - ...? ", 12)):
             self.wrong(text, 1, place)
 
     def test_kind_1_in_a_suit(self):
@@ -104,7 +104,8 @@ class WrongTexts(unittest.TestCase):
     def test_kind_5(self):
         for text, place in (("N:...", 5), ("N:... ", 5), ("N:....", 5), ("N:...-", 5), ("N:...x", 5), ("N:...A", 6),
                             ("N:...AK ", 7), ("N:AKQJT9876543...", 17), ("N:- - - ...", 11),
-                            ("N:- - - AK.AK.AK.AK", 19), ("N:- - - AK.AK.AK.AK ?", 19), ("N:...1", 5), ("N:A.K.Q.J- - -", 9)):
+                            ("N:- - - AK.AK.AK.AK", 19), ("N:- - - AK.AK.AK.AK ?", 19), ("N:...1", 5),
+                            ("N:A.K.Q.J- - -", 9)):
             self.wrong(text, 5, place)
 
     def test_kind_5_behind_a_wrong_rank_does_not_count(self):
