@@ -1,11 +1,11 @@
 """Deals as texts, which are lists of bytes: a text gone through byte by byte, and the text of a deal."""
 
-from dealboards.deals import HAND_SIZE, NOBODY, RANKS, SEATS, card_of, nothing_known, room_of
+from dealboards.deals import HAND_SIZE, NOBODY, RANKS, SEATS, SUITS_AS_TOLD
+from dealboards.deals import card_of, nothing_known, room_of
 
 SEAT_SIGNS = "NESW"
 RANK_SIGNS = "23456789TJQKA"
 CLUBS = 0
-SUITS_AS_TOLD = (3, 2, 1, 0)
 
 CANNOT_GO_ON = 1
 RANK_NOT_BELOW = 2

@@ -65,6 +65,46 @@ def suits(b, numbers):
     return [9, b] + row(numbers)
 
 
+def hand(b, seat):
+    return [10, b, seat]
+
+
+def features(b, seat):
+    return [11, b, seat]
+
+
+def curtain(b, north, east, south, west):
+    return [12, b] + row(north) + row(east) + row(south) + row(west)
+
+
+def know(b, card, seat):
+    return [13, b, card, seat]
+
+
+def forget(b, card):
+    return [14, b, card]
+
+
+def meet(b, c, d):
+    return [15, b, c, d]
+
+
+def clear(b):
+    return [16, b]
+
+
+def chance(b, card, seat):
+    return [17, b, card, seat]
+
+
+def next_deal(b):
+    return [18, b]
+
+
+def sure(b):
+    return [19, b]
+
+
 def run(*calls):
     """The answers, one list a call."""
     flat = answers([value for call in calls for value in call])
@@ -96,7 +136,7 @@ def text_of(holders, first=0):
     """The text of a deal, a dict from cards to seats, with the hand of a seat first."""
     hands = []
     for seat in [(first + turn) % 4 for turn in range(4)]:
-        held = [card for card in holders if holders[card] == seat]
+        held = held_by(holders, seat)
         parts = []
         for suit in (3, 2, 1, 0):
             ranks = sorted([card % 13 for card in held if card // 13 == suit], reverse=True)
@@ -104,6 +144,21 @@ def text_of(holders, first=0):
         mark = "?" if len(held) < 13 else ""
         hands.append(".".join(parts) + mark if held else "-")
     return "NESW"[first] + ":" + " ".join(hands)
+
+
+def holders_of(text):
+    """The deal that a right text tells, as a dict from cards to seats."""
+    holders = {}
+    first = "NESW".index(text[0])
+    for turn, told in enumerate(text[2:].split(" ")):
+        for suit, signs in zip((3, 2, 1, 0), told.strip("-?").split(".")):
+            for sign in signs:
+                holders[suit * 13 + "23456789TJQKA".index(sign)] = (first + turn) % 4
+    return holders
+
+
+def held_by(holders, seat):
+    return sorted(card for card in holders if holders[card] == seat)
 
 
 def fits_by_formula(holders):
